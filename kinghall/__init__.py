@@ -1,0 +1,1 @@
+"""Kinghall: halls in which each two meet once, and one of them wins."""

@@ -1,0 +1,161 @@
+"""Halls, and lists that are none, for the tests."""
+
+import copy
+
+
+def hall_of_bits(many, bits):
+    """The hall in which, pair by pair, a set bit lets the lesser number win."""
+    hall = [[] for player in range(many)]
+    for one in range(many):
+        for other in range(one + 1, many):
+            if bits & 1:
+                hall[one].append(other)
+            else:
+                hall[other].append(one)
+            bits >>= 1
+    return [sorted(beaten) for beaten in hall]
+
+
+def pairs_many(many):
+    return many * (many - 1) // 2
+
+
+def all_halls(many):
+    return [hall_of_bits(many, bits) for bits in range(2 ** pairs_many(many))]
+
+
+def some_halls(many, count):
+    """Mixed halls, the same ones at each run."""
+    halls = []
+    state = 88172645463325252 + many
+    for turn in range(count):
+        bits = 0
+        for pair in range(pairs_many(many)):
+            state = (state * 6364136223846793005 + 1442695040888963407) % 2 ** 64
+            bits = bits * 2 + (state >> 63)
+        halls.append(hall_of_bits(many, bits))
+    return halls
+
+
+def ladder(many):
+    """Whoever has the lesser number won."""
+    return [list(range(player + 1, many)) for player in range(many)]
+
+
+def upward_ladder(many):
+    """Whoever has the greater number won."""
+    return [list(range(player)) for player in range(many)]
+
+
+def wheel(many):
+    """For an odd number: each won against the half of them that follows it."""
+    half = many // 2
+    return [sorted((player + step) % many for step in range(1, half + 1)) for player in range(many)]
+
+
+def squares_hall():
+    """Seven players; each won against those a square ahead of it."""
+    return [sorted((player + step) % 7 for step in (1, 2, 4)) for player in range(7)]
+
+
+def named_halls():
+    halls = []
+    for many in range(1, 13):
+        halls.append(ladder(many))
+        halls.append(upward_ladder(many))
+        if many % 2 == 1:
+            halls.append(wheel(many))
+    halls.append(squares_hall())
+    return halls
+
+
+def halls_of_each_size(count):
+    halls = named_halls()
+    for many in range(1, 13):
+        halls.extend(some_halls(many, count))
+    return halls
+
+
+def changed(hall, player, beaten):
+    other = copy.deepcopy(hall)
+    other[player] = list(beaten)
+    return other
+
+
+def spoilt_numbers(hall, player):
+    """A wrong number stands in the place of one of the player's list."""
+    many = len(hall)
+    lists = []
+    for place, beaten in enumerate(hall[player]):
+        for wrong in (-1, beaten - many, many, beaten + many, 10 ** 30, -10 ** 30, player):
+            lists.append(changed(hall, player, hall[player][:place] + [wrong] + hall[player][place + 1:]))
+    return lists
+
+
+def spoilt_ends(hall, player):
+    """A wrong number is added where the list goes on rising."""
+    many = len(hall)
+    beaten = hall[player]
+    rows = [[-1] + beaten, [-many] + beaten, [-10 ** 30] + beaten, beaten + [many], beaten + [many + 1],
+            beaten + [10 ** 30], sorted(beaten + [player])]
+    return [changed(hall, player, row) for row in rows]
+
+
+def spoilt_order(hall, player):
+    beaten = hall[player]
+    rows = []
+    if len(beaten) > 1:
+        rows.append(beaten[::-1])
+        rows.append(beaten[1:] + beaten[:1])
+        rows.append(beaten[:-2] + [beaten[-1], beaten[-2]])
+    for place in range(len(beaten)):
+        rows.append(beaten[:place + 1] + beaten[place:])
+    if beaten:
+        rows.append(beaten + beaten)
+    return [changed(hall, player, row) for row in rows]
+
+
+def spoilt_pairs(hall, player):
+    """Of one pair none won, or both."""
+    lists = []
+    for other in range(len(hall)):
+        if other in hall[player]:
+            lists.append(changed(hall, player, [number for number in hall[player] if number != other]))
+            lists.append(changed(hall, other, sorted(hall[other] + [player])))
+    return lists
+
+
+def spoilt(hall):
+    lists = []
+    for player in range(len(hall)):
+        lists.extend(spoilt_numbers(hall, player))
+        lists.extend(spoilt_ends(hall, player))
+        lists.extend(spoilt_order(hall, player))
+        lists.extend(spoilt_pairs(hall, player))
+    return lists
+
+
+def wrong_sizes():
+    lists = [[]]
+    for many in (13, 14, 15, 40):
+        lists.append(ladder(many))
+        lists.append(upward_ladder(many))
+        lists.append([[] for player in range(many)])
+    lists.append(wheel(13))
+    for many in range(3, 13):
+        lists.append(ladder(many)[:-1])
+        lists.append(ladder(many)[1:])
+        lists.append(upward_ladder(many)[:-1] + [[]])
+        lists.append(ladder(many) + [[]])
+    return lists
+
+
+def no_halls():
+    """Lists of lists of whole numbers that are no halls."""
+    lists = wrong_sizes()
+    for hall in named_halls():
+        lists.extend(spoilt(hall))
+    for many in (3, 5, 8, 12):
+        for hall in some_halls(many, 2):
+            lists.extend(spoilt(hall))
+    return lists
