@@ -1,6 +1,6 @@
 """Halls: which lists are halls, and the wins of a hall."""
 
-from kinghall.errors import NoHall
+from kinghall.errors import NoHall, NoPlayer
 
 MOST_PLAYERS = 12
 
@@ -36,6 +36,11 @@ def one_of_each_two_won(hall):
 def need_hall(hall):
     if not is_hall(hall):
         raise NoHall("this list is no hall")
+
+
+def need_player(hall, player):
+    if player < 0 or player >= len(hall):
+        raise NoPlayer("this number is no player of the hall")
 
 
 def wins_of(hall):

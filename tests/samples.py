@@ -58,6 +58,47 @@ def squares_hall():
     return [sorted((player + step) % 7 for step in (1, 2, 4)) for player in range(7)]
 
 
+def winding(many):
+    """Whoever has the greater number won, but each won against the one that follows it."""
+    hall = [[other for other in range(player - 1)] for player in range(many)]
+    for player in range(many - 1):
+        hall[player].append(player + 1)
+    return hall
+
+
+def stacked(halls):
+    """One hall of several; every player of an earlier one won against every player of a later one."""
+    many = sum(len(hall) for hall in halls)
+    together = []
+    for hall in halls:
+        start = len(together)
+        behind = list(range(start + len(hall), many))
+        together.extend([start + other for other in beaten] + behind for beaten in hall)
+    return together
+
+
+def renumbered(hall, step):
+    """The same hall under other numbers; step and the number of players have no common divisor."""
+    many = len(hall)
+    other = [[] for player in range(many)]
+    for player, beaten in enumerate(hall):
+        other[player * step % many] = sorted(number * step % many for number in beaten)
+    return other
+
+
+def halls_of_several_groups():
+    halls = []
+    for sizes in ((1, 3), (3, 1), (3, 3), (4, 1, 4), (5, 6), (1, 11), (11, 1), (3, 1, 1, 5), (4, 4, 4), (1, 5, 1, 5),
+                  (3, 3, 3, 3), (1, 1, 3, 1, 1, 4, 1)):
+        hall = stacked([winding(size) for size in sizes])
+        halls.append(hall)
+        halls.append(renumbered(hall, len(hall) - 1))
+        for step in (5, 7):
+            if len(hall) % step:
+                halls.append(renumbered(hall, step))
+    return halls
+
+
 def named_halls():
     halls = []
     for many in range(1, 13):
@@ -70,7 +111,7 @@ def named_halls():
 
 
 def halls_of_each_size(count):
-    halls = named_halls()
+    halls = named_halls() + halls_of_several_groups() + [winding(many) for many in range(1, 13)]
     for many in range(1, 13):
         halls.extend(some_halls(many, count))
     return halls
@@ -148,6 +189,12 @@ def wrong_sizes():
         lists.append(upward_ladder(many)[:-1] + [[]])
         lists.append(ladder(many) + [[]])
     return lists
+
+
+def no_players(hall):
+    """Whole numbers that are no players of the hall."""
+    many = len(hall)
+    return [-1, -2, -many, -many - 1, -10 ** 29 - 7, many, many + 1, 2 * many, 12, 10 ** 29 + 7, 123456789 ** 4]
 
 
 def no_halls():
