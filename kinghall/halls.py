@@ -38,8 +38,12 @@ def need_hall(hall):
         raise NoHall("this list is no hall")
 
 
+def is_player(hall, player):
+    return player >= 0 and player < len(hall)
+
+
 def need_player(hall, player):
-    if player < 0 or player >= len(hall):
+    if not is_player(hall, player):
         raise NoPlayer("this number is no player of the hall")
 
 

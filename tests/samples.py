@@ -117,6 +117,76 @@ def halls_of_each_size(count):
     return halls
 
 
+def other_way_round(hall):
+    """In each pair the other one won."""
+    players = range(len(hall))
+    return [[other for other in players if other != player and other not in hall[player]] for player in players]
+
+
+def swapped(hall, one, other):
+    """The same hall, but the two players have each other's number."""
+    numbers = list(range(len(hall)))
+    numbers[one], numbers[other] = other, one
+    return [sorted(numbers[beaten] for beaten in hall[numbers[player]]) for player in range(len(hall))]
+
+
+def is_ring_of_three(hall, three):
+    if len(three) != 3 or any(player not in range(len(hall)) for player in three):
+        return False
+    return all(three[place] in hall[three[place - 1]] for place in range(3))
+
+
+def rings_of_three(hall):
+    """Each ring of three once, with its least player ahead."""
+    threes = [three for one in range(len(hall)) for second in range(one + 1, len(hall))
+              for third in range(second + 1, len(hall)) for three in ((one, second, third), (one, third, second))]
+    return [three for three in threes if is_ring_of_three(hall, three)]
+
+
+def after_turning(hall, three):
+    other = [list(beaten) for beaten in hall]
+    for place in range(3):
+        other[three[place - 1]].remove(three[place])
+        other[three[place]].append(three[place - 1])
+    return [sorted(beaten) for beaten in other]
+
+
+def led_on(hall, steps):
+    """Another hall with the same wins, or the same one where it has no ring."""
+    for step in range(steps):
+        rings = rings_of_three(hall)
+        if rings:
+            hall = after_turning(hall, rings[(step * step + 5 * step + 3) * 7 % len(rings)])
+    return hall
+
+
+def like_halls(hall):
+    """Halls with the same wins as this one."""
+    halls = [copy.deepcopy(hall)] + [led_on(hall, steps) for steps in (1, 2, 7)]
+    wins = [len(beaten) for beaten in hall]
+    for one in range(len(hall)):
+        for other in range(one):
+            if wins[one] == wins[other]:
+                halls.append(swapped(hall, one, other))
+    mirrored = other_way_round(hall)
+    if [len(beaten) for beaten in mirrored] == wins:
+        halls.append(mirrored)
+    # Numbered from behind, losses can stand in the places of as many wins.
+    from_behind = [sorted(len(hall) - 1 - other for other in beaten) for beaten in mirrored[::-1]]
+    if [len(beaten) for beaten in from_behind] == wins:
+        halls.append(from_behind)
+    return halls
+
+
+def note_of(hall):
+    """The hall as a text, by the sentences of the document."""
+    text = str(len(hall)) + ":"
+    for one in range(len(hall)):
+        for other in range(one + 1, len(hall)):
+            text += ">" if other in hall[one] else "<"
+    return text
+
+
 def changed(hall, player, beaten):
     other = copy.deepcopy(hall)
     other[player] = list(beaten)

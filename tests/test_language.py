@@ -47,6 +47,24 @@ def nodes():
     return [(path.name, node) for path in files() for node in ast.walk(ast.parse(path.read_text()))]
 
 
+def drawn_from():
+    """For each module the modules that it imports from."""
+    drawn = {path.stem: set() for path in files()}
+    for name, node in nodes():
+        if isinstance(node, ast.ImportFrom):
+            drawn[name[:-len(".py")]].add(node.module.rpartition(".")[2])
+    return drawn
+
+
+def names_at_top(module):
+    names = []
+    for node in ast.parse((PACKAGE / f"{module}.py").read_text()).body:
+        names.extend(bound_names(node))
+        if isinstance(node, ast.Assign):
+            names.append(node.targets[0].id)
+    return names
+
+
 def bound_names(node):
     if isinstance(node, ast.Name) and isinstance(node.ctx, ast.Store):
         return [node.id]
@@ -117,6 +135,33 @@ class TestForms(unittest.TestCase):
                 self.assertEqual(node.level, 0, name)
                 self.assertTrue(node.module.startswith("kinghall."), (name, node.module))
                 self.assertNotIn("*", [one.name for one in node.names], name)
+
+    def test_imports_are_from_the_file_that_defines_the_name(self):
+        for name, node in nodes():
+            if isinstance(node, ast.ImportFrom):
+                for one in node.names:
+                    self.assertIn(one.name, names_at_top(node.module.rpartition(".")[2]), name)
+                    self.assertIsNone(one.asname, name)
+
+    def test_no_files_draw_from_one_another(self):
+        drawn = drawn_from()
+        free = []
+        while len(free) < len(drawn):
+            ready = [module for module in drawn if module not in free and drawn[module] <= set(free)]
+            self.assertNotEqual(ready, [], "these draw from one another: " + str(sorted(set(drawn) - set(free))))
+            free.extend(ready)
+
+    def test_is_stands_beside_none_true_and_false(self):
+        for name, node in nodes():
+            if isinstance(node, ast.Compare) and any(isinstance(sign, (ast.Is, ast.IsNot)) for sign in node.ops):
+                self.assertIn(getattr(node.comparators[0], "value", 0), (None, True, False), (name, node.lineno))
+
+    def test_texts_and_powers(self):
+        for name, node in nodes():
+            if isinstance(node, ast.Constant) and isinstance(node.value, str):
+                self.assertNotIn("%", node.value, (name, node.lineno))
+            if isinstance(node, ast.BinOp) and isinstance(node.op, ast.Pow):
+                self.assertIsInstance(node.right, ast.Constant, (name, node.lineno))
 
 
 class TestNames(unittest.TestCase):
